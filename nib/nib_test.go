@@ -1,0 +1,162 @@
+package nib
+
+import (
+	"strings"
+	"testing"
+
+	"nib/api"
+)
+
+func open(t *testing.T, text string) *Editor {
+	t.Helper()
+	e, errno := New(text)
+	if e == nil || errno != api.OK {
+		t.Fatalf("P3: New(%q): %v, %d", text, e != nil, errno)
+	}
+	return e
+}
+
+// row: a text, keys; where the cursor is then, and how many commands failed.
+type row struct {
+	text, keys string
+	at, fails  int
+}
+
+// check wants Normal, nothing begun and the same text behind each row.
+func check(t *testing.T, what string, rows []row) {
+	t.Helper()
+	for _, r := range rows {
+		e := open(t, r.text)
+		fails := e.Type(r.keys)
+		if s := e.State(); fails != r.fails || s != (api.State{Text: r.text, At: r.at}) {
+			t.Errorf("%s: %q, typed %q: %+v, %d failed, want at %d, %d failed", what, r.text, r.keys, s, fails, r.at, r.fails)
+		}
+	}
+}
+
+func TestNew(t *testing.T) {
+	for _, text := range []string{"", "\n", " ", "foo\nbar\n", "\x00\x1b\xff", strings.Repeat("x", api.MaxText), strings.Repeat("\n", api.MaxText)} {
+		if s := open(t, text).State(); s != (api.State{Text: text}) {
+			t.Errorf("P3: New(%q): %+v", text, s)
+		}
+	}
+	for _, length := range []int{api.MaxText + 1, 5000} {
+		if e, errno := New(strings.Repeat("x", length)); e != nil || errno != api.ErrText {
+			t.Errorf("P3: New of %d bytes: %v, %d", length, e != nil, errno)
+		}
+	}
+}
+
+func TestFails(t *testing.T) {
+	check(t, "P4", []row{
+		{"foo", "", 0, 0},
+		{"foo", "q", 0, 1},
+		{"foo", "qqq", 0, 3},
+		{"foo", "3qll", 2, 1},     // the number is forgotten
+		{"foo", "dql", 1, 1},      // so is the verb
+		{"foo", "\"aql", 1, 1},    // so is the register's name
+		{"foo", "gql", 1, 1},      // so is a part of a command
+		{"foo", "2d3ql", 1, 1},    // all of them
+		{"foo", "diql", 1, 1},     // no object
+		{"foo", "d\"l", 1, 1},     // a name behind a verb
+		{"foo", "dvl", 1, 1},      // no way
+		{"foo", "dyl", 1, 1},      // another verb
+		{"foo", "dgul", 1, 1},     // a verb of two keys behind a verb
+		{"foo", "gugul", 1, 1},    // only the last key stands for it
+		{"foo", "gUul", 1, 1},     // the last key of another verb
+		{"foo", "3\"l", 1, 1},     // a name behind a number
+		{"foo", "\"a3\"l", 1, 1},  // likewise
+		{"foo", "\"Al", 1, 1},     // no name
+		{"foo", "\"1l", 1, 1},     // no name
+		{"foo", "\"\nl", 1, 1},    // no name
+		{"foo", "llh3h", 0, 0},    // not ahead of the line's beginning
+		{"foo", "llhhh", 0, 1},    // three h, but two places
+		{"foo bar", "dfql", 1, 1}, // a way that fails behind a verb
+		{"foo bar", "3dhl", 1, 1}, // likewise
+		{"foo bar", "\x00\x7f\x80\xff\rl", 1, 5},
+	})
+}
+
+func TestEscape(t *testing.T) {
+	check(t, "P4", []row{
+		{"foo", "\x1b\x1b", 0, 0},
+		{"foo", "2\x1bl", 1, 0},
+		{"foo", "d\x1bl", 1, 0},
+		{"foo", "d2\x1bl", 1, 0},
+		{"foo", "\"\x1bl", 1, 0},
+		{"foo", "\"a\x1bl", 1, 0},
+		{"foo", "g\x1bl", 1, 0},
+		{"foo", "gu\x1bl", 1, 0},
+		{"foo", "di\x1bl", 1, 0},
+		{"foo", "r\x1bl", 1, 0},
+		{"foo", "f\x1bl", 1, 0},
+		{"f\x1b\x1b", "f\x1b;l", 1, 1}, // Escape is no byte to look for
+		{"foo", "v\x1bl", 1, 0},
+		{"foo", "V\x1bl", 1, 0},
+		{"foo", "v2\x1bl", 1, 0},
+		{"foo", "vf\x1bl", 1, 0},
+		{"foo", "v\"\x1bl", 1, 0},
+		{"foo", "Vi\x1bl", 1, 0},
+		{"foo", "lvl\x1b", 2, 0},
+	})
+}
+
+// commandKeys: all keys that begin a command in Normal, and in Visual and Lines.
+const (
+	wayKeys    = "hl0^$jkGgwWbBeEftFT;,}{%"
+	normalKeys = wayKeys + "123456789\"dcy><xXDCsSYprP~JiaIAoOvVu\x12.\x1b"
+	markKeys   = wayKeys + "123456789\"iaovVdxcsy><uU\x1b"
+)
+
+func TestNoCommand(t *testing.T) {
+	for c := range 256 {
+		key := string([]byte{byte(c)})
+		if strings.IndexByte(normalKeys, byte(c)) < 0 {
+			check(t, "P4, no command", []row{{"foo bar", "w" + key, 4, 1}, {"foo bar", "w2" + key, 4, 1}, {"", key, 0, 1}})
+		}
+		if strings.IndexByte(markKeys, byte(c)) >= 0 {
+			continue
+		}
+		for begin, mode := range map[string]int{"wv": api.Visual, "wV": api.Lines} {
+			e := open(t, "foo bar")
+			fails := e.Type(begin + "l2" + key)
+			if s := e.State(); fails != 1 || s != (api.State{Text: "foo bar", At: 5, Anchor: 4, Mode: mode}) {
+				t.Errorf("P4: typed %q: %+v, %d failed", begin+"l2"+key, s, fails)
+			}
+		}
+	}
+}
+
+func TestWaiting(t *testing.T) {
+	for _, keys := range []string{
+		"1", "9", "10", "\"", "\"\"", "\"a", "\"z", "\"a2", "d", "c", "y", ">", "<", "g", "gu", "gU", "d2", "dg", "gug", "guf", "df", "di", "da", "\"a3d2i",
+		"f", "t", "F", "T", "2f", "r", "3r", "v1", "vg", "vf", "v\"", "v\"a", "vi", "va", "V2", "Vt", "q3", "l\"a",
+	} {
+		e := open(t, "foo bar")
+		e.Type(keys)
+		if !e.State().Waiting {
+			t.Errorf("P5: typed %q: not waiting", keys)
+		}
+		if e.Type("\x1b") != 0 || e.State().Waiting || e.State().Mode != api.Normal {
+			t.Errorf("P5: typed %q and Escape: %+v", keys, e.State())
+		}
+	}
+	for _, keys := range []string{"", "l", "2l", "0", "\"al", "gg", "fo", "f1", "v", "vl", "v2l", "vfo", "V", "vv", "q", "2q", "dq", "vq", "v2q", "dfq", "\"A"} {
+		e := open(t, "foo bar")
+		if e.Type(keys); e.State().Waiting {
+			t.Errorf("P5: typed %q: waiting", keys)
+		}
+	}
+}
+
+func TestRegisters(t *testing.T) {
+	for _, keys := range []string{"", "\"a", "wvl"} {
+		e := open(t, "foo bar")
+		e.Type(keys)
+		for c := range 256 {
+			if s, lines := e.Register(byte(c)); s != "" || lines {
+				t.Errorf("P5: typed %q: register %d has %q, %v", keys, c, s, lines)
+			}
+		}
+	}
+}
