@@ -51,7 +51,7 @@ func (b *begun) lead() outcome {
 }
 
 func (b *begun) name(key byte) outcome {
-	if key != '"' && (key < 'a' || key > 'z') {
+	if key != unnamed && (key < 'a' || key > 'z') {
 		return failed
 	}
 	b.register = key

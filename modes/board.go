@@ -6,19 +6,23 @@ import (
 )
 
 // taker is a mode, for its keys.
-type taker interface{ take(key byte) outcome }
+type taker interface {
+	take(key byte) outcome
+	escape()
+}
 
 // Board gives each key to the mode that is on.
 type Board struct {
 	*reader
 	normal  normal
+	insert  insert
 	marking marking
 }
 
 // New is a board with a text, the cursor at 0, Normal.
 func New(content string) *Board {
-	r := &reader{desk: &desk{text: text.Text(content)}}
-	return &Board{reader: r, normal: normal{r}, marking: marking{r}}
+	r := &reader{desk: &desk{text: text.Text(content), registers: registers{}}}
+	return &Board{reader: r, normal: normal{r}, insert: insert{r.desk}, marking: marking{r}}
 }
 
 // Type takes keys one by one; how many commands failed.
@@ -32,9 +36,11 @@ func (b *Board) Type(keys string) int {
 	return fails
 }
 
+// press: Escape is no part of any command, so it goes ahead of them.
 func (b *Board) press(key byte) outcome {
 	if key == api.Escape {
-		return b.escape()
+		b.on().escape()
+		return done
 	}
 	became := b.on().take(key)
 	if became != more {
@@ -43,16 +49,12 @@ func (b *Board) press(key byte) outcome {
 	return became
 }
 
-// escape stands ahead of all modes: no command has this key as a part.
-func (b *Board) escape() outcome {
-	b.forget()
-	b.toNormal()
-	return done
-}
-
 func (b *Board) on() taker {
-	if b.mode == api.Normal {
+	switch b.mode {
+	case api.Normal:
 		return b.normal
+	case api.Insert:
+		return b.insert
 	}
 	return b.marking
 }
@@ -62,5 +64,8 @@ func (b *Board) State() api.State {
 	return api.State{Text: string(b.text), At: b.at, Anchor: b.anchor, Mode: b.mode, Waiting: b.waiting()}
 }
 
-// Register tells what a register has: nothing, as no key writes one yet.
-func (b *Board) Register(name byte) (string, bool) { return "", false }
+// Register tells what a register has, and whether that is lines.
+func (b *Board) Register(name byte) (string, bool) {
+	what := b.registers[name]
+	return what.text, what.lines
+}

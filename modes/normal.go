@@ -1,6 +1,10 @@
 package modes
 
-import "nib/api"
+import (
+	"nib/api"
+	"nib/text"
+	"nib/verbs"
+)
 
 // normal is the mode in which keys are commands.
 type normal struct{ *reader }
@@ -19,7 +23,7 @@ func (n normal) take(key byte) outcome {
 
 func (n normal) complete(key byte) outcome {
 	switch {
-	case n.part == 'g' && n.verb == 0 && (key == 'u' || key == 'U'):
+	case n.part == 'g' && n.verb == 0 && (key == verbs.Small || key == verbs.Great):
 		n.await(0)
 		return n.toVerb(key)
 	case n.part == 'r':
@@ -37,18 +41,24 @@ func (n normal) toVerb(key byte) outcome {
 func (n normal) behindVerb(key byte) outcome {
 	switch key {
 	case n.verb:
-		return done
+		return n.do(n.verb, n.lines())
 	case 'i', 'a':
 		return n.await(key)
 	}
 	return n.way(key)
 }
 
+// lines is as many as the number says, from the cursor's on, if there are so many.
+func (n normal) lines() text.Piece {
+	last, _ := n.text.Further(n.line(), max(n.count(), 1)-1, text.Down)
+	return n.text.Lines(n.at, last[0])
+}
+
 func (n normal) command(key byte) outcome {
 	switch key {
 	case '"':
 		return n.lead()
-	case 'd', 'c', 'y', '>', '<':
+	case verbs.Delete, verbs.Change, verbs.Copy, verbs.Right, verbs.Left:
 		return n.toVerb(key)
 	case 'r':
 		return n.await(key)
@@ -58,7 +68,13 @@ func (n normal) command(key byte) outcome {
 	case 'V':
 		n.mark(api.Lines)
 		return done
-	case 'x', 'X', 'D', 'C', 's', 'S', 'Y', 'p', 'P', '~', 'J', 'i', 'a', 'I', 'A', 'o', 'O', 'u', api.Redo, '.':
+	case 'x', 'X', 'D', 'C', 's', 'S', 'Y':
+		return n.short(key)
+	case 'i', 'a', 'I', 'A':
+		return n.begin(key)
+	case 'o', 'O':
+		return n.openLine(key)
+	case 'p', 'P', '~', 'J', 'u', api.Redo, '.':
 		return done
 	}
 	return n.way(key)

@@ -1,8 +1,9 @@
 package modes
 
 import (
-	"strings"
-
+	"nib/objects"
+	"nib/text"
+	"nib/verbs"
 	"nib/ways"
 )
 
@@ -15,13 +16,15 @@ const (
 	failed                // it failed
 )
 
-// The keys that name an object, behind i or a.
-const objects = "wW()[]{}\"'p"
-
 // reader is what is common to the modes in which keys are commands.
 type reader struct {
 	*desk
 	begun
+}
+
+func (r *reader) escape() {
+	r.forget()
+	r.toNormal()
 }
 
 // complete takes the key that the one before it needs.
@@ -37,17 +40,9 @@ func (r *reader) complete(key byte) outcome {
 			return r.arrive(ways.Go(ways.FirstLine, r.start()))
 		}
 	case 'i', 'a':
-		return r.object(key)
+		return r.grasp(objects.Find(key, objects.Place{Text: r.text, At: r.at, Whole: r.part == 'a'}))
 	}
 	return failed
-}
-
-// object does nothing with an object but to know it.
-func (r *reader) object(key byte) outcome {
-	if strings.IndexByte(objects, key) < 0 {
-		return failed
-	}
-	return done
 }
 
 // way takes a key of a way.
@@ -64,16 +59,63 @@ func (r *reader) way(key byte) outcome {
 }
 
 func (r *reader) start() ways.Start {
-	return ways.Start{Text: r.text, At: r.at, Count: r.count(), Verb: r.verb != 0}
+	return ways.Start{Text: r.text, At: r.at, Count: r.count(), Verb: r.verb != 0, Change: r.verb == verbs.Change}
 }
 
-// arrive ends a way: the cursor goes there, unless the way is for a verb.
+// arrive ends a way: a verb is done to what it takes, or the cursor goes there.
 func (r *reader) arrive(goal ways.Goal, is bool) outcome {
-	if !is {
+	switch {
+	case !is:
+		return failed
+	case r.verb != 0:
+		return r.do(r.verb, r.start().Taken(goal))
+	}
+	r.moveTo(goal.At)
+	return done
+}
+
+// grasp ends an object: a verb is done to it, or it is marked.
+func (r *reader) grasp(object text.Piece, is bool) outcome {
+	switch {
+	case !is:
+		return failed
+	case r.verb != 0:
+		return r.do(r.verb, object)
+	}
+	return r.markAll(object)
+}
+
+// markAll marks a piece, from its first place to its last one.
+func (r *reader) markAll(piece text.Piece) outcome {
+	switch {
+	case piece.IsNothing():
+		return failed
+	case piece.Lines:
+		r.moveTo(r.text.Line(piece.Stretch[1])[0])
+	default:
+		r.moveTo(piece.Stretch.Last())
+	}
+	r.anchor = piece.Stretch[0]
+	return done
+}
+
+// do does a verb, which ends what is marked.
+func (r *reader) do(verb byte, piece text.Piece) outcome {
+	if piece.IsNothing() && verb != verbs.Change {
 		return failed
 	}
-	if r.verb == 0 {
-		r.moveTo(goal.At)
+	what := taken(r.text, piece)
+	after, at := verbs.Do(verb, r.text, piece, r.at)
+	if !r.become(after) {
+		return failed
 	}
+	if verbs.Writes(verb) {
+		r.registers.write(r.register, what)
+	}
+	if verb == verbs.Change {
+		return r.insertAt(at)
+	}
+	r.toNormal()
+	r.moveTo(at)
 	return done
 }

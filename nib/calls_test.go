@@ -1,6 +1,7 @@
 package nib
 
 import (
+	"maps"
 	"math/rand"
 	"strings"
 	"testing"
@@ -26,7 +27,7 @@ func sound(t *testing.T, keys string, s api.State) {
 
 func TestAllPairsOfBytes(t *testing.T) {
 	for _, text := range []string{"", sample} {
-		for _, begin := range []string{"", "w", "v", "V", "2", "d", "g"} {
+		for _, begin := range []string{"", "w", "v", "V", "2", "d", "c", "gU", "di", "va", "\"a", "i", "C"} {
 			for pair := range 1 << 16 {
 				keys := begin + string([]byte{byte(pair >> 8), byte(pair)})
 				e := open(t, text)
@@ -54,7 +55,7 @@ func someKeys(r *rand.Rand) string {
 // TestParts: keys typed in parts, with looks between them, are the keys typed at once.
 func TestParts(t *testing.T) {
 	r := rand.New(rand.NewSource(1))
-	for range 20000 {
+	for range 5000 {
 		text, keys := texts[r.Intn(len(texts))], someKeys(r)
 		whole, parts, other := open(t, text), open(t, text), open(t, text)
 		fails := whole.Type(keys)
@@ -62,23 +63,23 @@ func TestParts(t *testing.T) {
 		for i := range len(keys) {
 			sum += parts.Type(keys[i : i+1])
 			sound(t, keys[:i+1], parts.State())
-			if parts.State() != parts.State() {
-				t.Fatalf("P2: typed %q: State changes the state", keys)
+			before, state := registersOf(parts), parts.State()
+			if parts.State() != state || !maps.Equal(registersOf(parts), before) {
+				t.Fatalf("P2: typed %q: State or Register changes something", keys)
 			}
-			parts.Register(keys[i])
 		}
-		if sum != fails || parts.State() != whole.State() {
+		if sum != fails || parts.State() != whole.State() || !maps.Equal(registersOf(parts), registersOf(whole)) {
 			t.Fatalf("P2: %q, typed %q: %+v, %d failed; in parts %+v, %d", text, keys, whole.State(), fails, parts.State(), sum)
 		}
-		if other.State() != (api.State{Text: text}) {
+		if other.State() != (api.State{Text: text}) || len(registersOf(other)) > 0 {
 			t.Fatalf("P2: typed %q, and another editor has changed: %+v", keys, other.State())
 		}
 	}
 }
 
-// TestWaysKeepText: whatever ways, marks and failing keys do, the text stays.
+// TestWaysKeepText: whatever ways, y, marks and failing keys do, the text stays.
 func TestWaysKeepText(t *testing.T) {
-	const keys = wayKeys + "123456789vVq\x00\xff\x1b"
+	const keys = wayKeys + "123456789yYvVq\x00\xff\x1b"
 	r := rand.New(rand.NewSource(2))
 	for range 5000 {
 		text := texts[r.Intn(len(texts))]

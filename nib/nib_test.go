@@ -26,11 +26,7 @@ type row struct {
 func check(t *testing.T, what string, rows []row) {
 	t.Helper()
 	for _, r := range rows {
-		e := open(t, r.text)
-		fails := e.Type(r.keys)
-		if s := e.State(); fails != r.fails || s != (api.State{Text: r.text, At: r.at}) {
-			t.Errorf("%s: %q, typed %q: %+v, %d failed, want at %d, %d failed", what, r.text, r.keys, s, fails, r.at, r.fails)
-		}
+		checkEdits(t, what, []edit{{r.text, r.keys, r.text, r.at, r.fails}})
 	}
 }
 
@@ -141,7 +137,7 @@ func TestWaiting(t *testing.T) {
 			t.Errorf("P5: typed %q and Escape: %+v", keys, e.State())
 		}
 	}
-	for _, keys := range []string{"", "l", "2l", "0", "\"al", "gg", "fo", "f1", "v", "vl", "v2l", "vfo", "V", "vv", "q", "2q", "dq", "vq", "v2q", "dfq", "\"A"} {
+	for _, keys := range []string{"", "l", "2l", "0", "\"al", "gg", "fo", "f1", "v", "vl", "v2l", "vfo", "V", "vv", "q", "2q", "dq", "vq", "v2q", "dfq", "\"A", "dw", "\"a2dd", "diw", "guu", "i", "2i", "\"aA", "id2", "cw", "c2wd", "2s", "vd", "v\"ay", "viw", "v2c", "i\x1b"} {
 		e := open(t, "foo bar")
 		if e.Type(keys); e.State().Waiting {
 			t.Errorf("P5: typed %q: waiting", keys)

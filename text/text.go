@@ -23,6 +23,14 @@ func (s Stretch) IsEmpty() bool { return s[0] == s[1] }
 // Last is the place ahead of a line's end; of an empty line its beginning.
 func (s Stretch) Last() int { return max(s[0], s[1]-1) }
 
+// Column is the place in a column of a line, at most its last one.
+func (s Stretch) Column(column int) int { return min(s[0]+column, s.Last()) }
+
+// Join is from where the first of two stretches begins to where the last one ends.
+func (s Stretch) Join(other Stretch) Stretch {
+	return Stretch{min(s[0], other[0]), max(s[1], other[1])}
+}
+
 // End is the text's end, the greatest place.
 func (t Text) End() int { return len(t) }
 
@@ -58,15 +66,17 @@ func (t Text) Further(line Stretch, lines, direction int) (Stretch, int) {
 	return line, lines
 }
 
-// First is the place of a line's first byte that is no blank; if all are, its last place.
-func (t Text) First(line Stretch) int {
-	for place := line[0]; place < line[1]; place++ {
-		if ClassOf(t[place], false) != Blank {
-			return place
-		}
+// Indent is the blanks that a line has ahead.
+func (t Text) Indent(line Stretch) Stretch {
+	blanks := Stretch{line[0], line[0]}
+	for blanks[1] < line[1] && ClassOf(t[blanks[1]], false) == Blank {
+		blanks[1]++
 	}
-	return line.Last()
+	return blanks
 }
+
+// First is the place of a line's first byte that is no blank; if all are, its last place.
+func (t Text) First(line Stretch) int { return min(t.Indent(line)[1], line.Last()) }
 
 // Run is the run that a place is in; at a line's end it is empty.
 func (t Text) Run(place int, great bool) Stretch {

@@ -47,8 +47,7 @@ func (s Start) toLine(key byte) (Goal, bool) {
 	if gone < s.number() {
 		return Goal{}, false
 	}
-	column := s.At - from[0]
-	return Goal{min(line[0]+column, line.Last()), Lines}, true
+	return Goal{line.Column(s.At - from[0]), Lines}, true
 }
 
 func (s Start) toNumber(key byte) (Goal, bool) {

@@ -305,8 +305,8 @@ func eachStart(bytes string, length int, do func(Start)) {
 	for _, content := range all {
 		for at := range len(content) + 1 {
 			for _, count := range []int{0, 1, 2, 3, 99} {
-				do(Start{text.Text(content), at, count, false})
-				do(Start{text.Text(content), at, count, true})
+				do(Start{Text: text.Text(content), At: at, Count: count})
+				do(Start{Text: text.Text(content), At: at, Count: count, Verb: true})
 			}
 		}
 	}

@@ -1,4 +1,4 @@
-// Package ways: where the cursor goes (P6).
+// Package ways: where the cursor goes (P6), and what a verb takes of that.
 package ways
 
 import "nib/text"
@@ -14,16 +14,29 @@ const (
 
 // Start is what a way hangs on.
 type Start struct {
-	Text  text.Text
-	At    int
-	Count int // 0: without a number
-	Verb  bool
+	Text   text.Text
+	At     int
+	Count  int // 0: without a number
+	Verb   bool
+	Change bool // the verb is c
 }
 
 // Goal is where a way leads.
 type Goal struct {
 	At   int
 	Kind Kind
+}
+
+// Taken is what a verb takes of a way.
+func (s Start) Taken(goal Goal) text.Piece {
+	stretch := text.Stretch{min(s.At, goal.At), max(s.At, goal.At)}
+	switch goal.Kind {
+	case In:
+		stretch[1]++
+	case Lines:
+		return s.Text.Lines(stretch[0], stretch[1])
+	}
+	return text.Piece{Stretch: stretch}
 }
 
 // FirstLine is the way gg: its first key is not needed to tell it from the others.

@@ -47,7 +47,7 @@ func TestVerb(t *testing.T) {
 		{sample, 0, 0, '%', Goal{14, In}, true},
 		{sample, 0, 0, 'q', Goal{}, false},
 	} {
-		got, is := Go(c.key, Start{c.text, c.at, c.count, true})
+		got, is := Go(c.key, Start{Text: c.text, At: c.at, Count: c.count, Verb: true})
 		if got != c.want || is != c.is {
 			t.Errorf("P6: %q at %d, a verb and %d%c: %v, %v, want %v, %v", c.text, c.at, c.count, c.key, got, is, c.want, c.is)
 		}

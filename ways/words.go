@@ -3,6 +3,9 @@ package ways
 import "nib/text"
 
 func (s Start) toWord(great bool) (Goal, bool) {
+	if s.Change && hasInk(s.Text, s.At) {
+		return s.toOwnEnd(great), true
+	}
 	from, place := s.At, s.At
 	for range s.number() {
 		from, place = place, wordStep(s.Text, place, great)
@@ -37,6 +40,15 @@ func (s Start) toWordEnd(great bool) (Goal, bool) {
 		place = wordEndStep(s.Text, place, great)
 	}
 	return s.unlessHere(place, In)
+}
+
+// toOwnEnd is the way of cw, which leaves the blanks behind a word alone: the end of the word at the cursor counts, even if the cursor is there.
+func (s Start) toOwnEnd(great bool) Goal {
+	place := s.Text.Run(s.At, great)[1] - 1
+	for range s.number() - 1 {
+		place = wordEndStep(s.Text, place, great)
+	}
+	return Goal{place, In}
 }
 
 // wordEndStep stays where it is if no word is left.
@@ -99,7 +111,6 @@ func inkAhead(t text.Text, place int) int {
 	line, more := t.Line(place), true
 search:
 	for more {
-		place = min(place, line.Last())
 		if line.IsEmpty() {
 			break search
 		}
