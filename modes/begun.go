@@ -29,6 +29,9 @@ func (b *begun) count() int {
 	return min(b.number*b.behind, api.MaxCount)
 }
 
+// times is how often the whole command is done.
+func (b *begun) times() int { return max(b.count(), 1) }
+
 // digit takes a key of a number; not, if the key is none there.
 func (b *begun) digit(key byte) bool {
 	number := &b.number

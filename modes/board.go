@@ -2,18 +2,20 @@ package modes
 
 import (
 	"nib/api"
+	"nib/changes"
 	"nib/text"
 )
 
 // taker is a mode, for its keys.
 type taker interface {
 	take(key byte) outcome
-	escape()
+	escape() outcome
 }
 
 // Board gives each key to the mode that is on.
 type Board struct {
 	*reader
+	record
 	normal  normal
 	insert  insert
 	marking marking
@@ -21,7 +23,8 @@ type Board struct {
 
 // New is a board with a text, the cursor at 0, Normal.
 func New(content string) *Board {
-	r := &reader{desk: &desk{text: text.Text(content), registers: registers{}}}
+	t := text.Text(content)
+	r := &reader{desk: &desk{text: t, registers: registers{}, history: changes.Of(t)}}
 	return &Board{reader: r, normal: normal{r}, insert: insert{r.desk}, marking: marking{r}}
 }
 
@@ -36,17 +39,44 @@ func (b *Board) Type(keys string) int {
 	return fails
 }
 
-// press: Escape is no part of any command, so it goes ahead of them.
+// press takes a key. For u and for the dot a command that begins Insert is over when that is.
 func (b *Board) press(key byte) outcome {
+	mode := b.mode
+	became := b.take(key)
+	b.keep(key, mode)
+	if became != more && b.mode != api.Insert {
+		b.end(became)
+		b.history.Keep(b.text)
+	}
+	return became
+}
+
+// take gives a key to the mode that is on. Escape is no part of any command, so it goes ahead of them.
+func (b *Board) take(key byte) outcome {
 	if key == api.Escape {
-		b.on().escape()
-		return done
+		return b.on().escape()
 	}
 	became := b.on().take(key)
 	if became != more {
 		b.forget()
 	}
+	if became == again {
+		return b.repeat()
+	}
 	return became
+}
+
+// repeat types the last doing; all of it is one command, so its keys are not pressed one by one.
+func (b *Board) repeat() outcome {
+	if b.doing == "" {
+		return failed
+	}
+	for i := range len(b.doing) {
+		if b.take(b.doing[i]) == failed {
+			return failed
+		}
+	}
+	return done
 }
 
 func (b *Board) on() taker {

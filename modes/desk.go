@@ -3,6 +3,7 @@ package modes
 
 import (
 	"nib/api"
+	"nib/changes"
 	"nib/text"
 	"nib/ways"
 )
@@ -14,6 +15,7 @@ type desk struct {
 	anchor    int
 	mode      int
 	registers registers
+	history   changes.History
 	find      ways.Find // the last one, for ; and ,
 }
 

@@ -17,11 +17,14 @@ func (i insert) take(key byte) outcome {
 		i.put("\n" + i.indent())
 	case key == api.Backspace || key == rubout:
 		i.wipe()
-	case key == '\t' || key >= ' ':
+	case isWritten(key):
 		i.put(string([]byte{key}))
 	}
 	return done
 }
+
+// isWritten tells whether a byte can be written by its own key.
+func isWritten(key byte) bool { return key == '\t' || key >= ' ' }
 
 // put writes bytes ahead of the cursor.
 func (i insert) put(bytes string) {
@@ -46,7 +49,8 @@ func (i insert) wipe() {
 }
 
 // escape: what was written last is under the cursor then.
-func (i insert) escape() {
+func (i insert) escape() outcome {
 	i.at = max(i.at-1, i.line()[0])
 	i.toNormal()
+	return did
 }

@@ -27,7 +27,7 @@ func (n normal) complete(key byte) outcome {
 		n.await(0)
 		return n.toVerb(key)
 	case n.part == 'r':
-		return done
+		return n.replace(key)
 	}
 	return n.reader.complete(key)
 }
@@ -50,7 +50,7 @@ func (n normal) behindVerb(key byte) outcome {
 
 // lines is as many as the number says, from the cursor's on, if there are so many.
 func (n normal) lines() text.Piece {
-	last, _ := n.text.Further(n.line(), max(n.count(), 1)-1, text.Down)
+	last, _ := n.text.Further(n.line(), n.times()-1, text.Down)
 	return n.text.Lines(n.at, last[0])
 }
 
@@ -74,8 +74,18 @@ func (n normal) command(key byte) outcome {
 		return n.begin(key)
 	case 'o', 'O':
 		return n.openLine(key)
-	case 'p', 'P', '~', 'J', 'u', api.Redo, '.':
-		return done
+	case 'p', 'P':
+		return n.lay(key)
+	case '~':
+		return n.edit(n.spot().Turned())
+	case 'J':
+		return n.edit(n.spot().Joined())
+	case 'u':
+		return n.goTo(n.history.Undo(n.times()))
+	case api.Redo:
+		return n.goTo(n.history.Redo(n.times()))
+	case '.':
+		return again
 	}
 	return n.way(key)
 }

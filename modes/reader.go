@@ -13,6 +13,8 @@ type outcome int
 const (
 	more   outcome = iota // the command is not whole yet
 	done                  // it was done
+	did                   // it was done, and is a doing
+	again                 // the last doing is to be done
 	failed                // it failed
 )
 
@@ -22,9 +24,10 @@ type reader struct {
 	begun
 }
 
-func (r *reader) escape() {
+func (r *reader) escape() outcome {
 	r.forget()
 	r.toNormal()
+	return done
 }
 
 // complete takes the key that the one before it needs.
@@ -117,5 +120,8 @@ func (r *reader) do(verb byte, piece text.Piece) outcome {
 	}
 	r.toNormal()
 	r.moveTo(at)
-	return done
+	if verb == verbs.Copy {
+		return done
+	}
+	return did
 }

@@ -21,6 +21,14 @@ func (r registers) write(name byte, what register) {
 	}
 }
 
+// read is what the named register has, or the unnamed one, if none was named.
+func (r registers) read(name byte) register {
+	if name == 0 {
+		name = unnamed
+	}
+	return r[name]
+}
+
 // taken is a piece of a text for a register: lines have a byte 10 behind each.
 func taken(t text.Text, piece text.Piece) register {
 	content := t.Of(piece.Stretch)

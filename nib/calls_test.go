@@ -27,7 +27,7 @@ func sound(t *testing.T, keys string, s api.State) {
 
 func TestAllPairsOfBytes(t *testing.T) {
 	for _, text := range []string{"", sample} {
-		for _, begin := range []string{"", "w", "v", "V", "2", "d", "c", "gU", "di", "va", "\"a", "i", "C"} {
+		for _, begin := range []string{"", "w", "v", "V", "2", "d", "c", "gU", "di", "va", "\"a", "i", "C", "r", "yyxxu"} {
 			for pair := range 1 << 16 {
 				keys := begin + string([]byte{byte(pair >> 8), byte(pair)})
 				e := open(t, text)
@@ -79,7 +79,7 @@ func TestParts(t *testing.T) {
 
 // TestWaysKeepText: whatever ways, y, marks and failing keys do, the text stays.
 func TestWaysKeepText(t *testing.T) {
-	const keys = wayKeys + "123456789yYvVq\x00\xff\x1b"
+	const keys = wayKeys + "123456789yYvVq\x00\xff\x1b\x12."
 	r := rand.New(rand.NewSource(2))
 	for range 5000 {
 		text := texts[r.Intn(len(texts))]
@@ -90,7 +90,7 @@ func TestWaysKeepText(t *testing.T) {
 		e := open(t, text)
 		e.Type(string(typed))
 		if s := e.State(); s.Text != text {
-			t.Fatalf("P4: %q, typed %q: the text is %q", text, typed, s.Text)
+			t.Fatalf("P13: %q, typed %q: the text is %q", text, typed, s.Text)
 		}
 	}
 }

@@ -73,6 +73,14 @@ func TestBound(t *testing.T) {
 		{full, ">>", full, 0, 1}, {most, ">>", most, 0, 1}, {most, "$>>", most, 998, 1}, {most, "x>>", "  " + most[1:], 2, 0}, {deep, ">>", "  " + deep, 4, 0}, {deep, ">>>>", "  " + deep, 4, 1}, {full, ">l", full, 0, 1}, {"\n" + most, "j>>k>>", "\n" + most, 0, 1},
 		{full, "dd", "", 0, 0}, {full, "x", most, 0, 0}, {full, "ccx\x1b", "x", 0, 0}, {full, "gUU", strings.ToUpper(full), 0, 0}, {full, "<<", full, 0, 0}, {full, "sy\x1b", "y" + most, 0, 0}, {full, "syz\x1b", "y" + most, 0, 0},
 	})
+	half, wide := strings.Repeat("x", api.MaxText/2), strings.Repeat("x", api.MaxText/2-1)
+	checkEdits(t, "P12, commands without a verb", []edit{
+		{full, "ylp", full, 0, 1}, {full, "9lylP", full, 9, 1}, {most, "ylp", full, 1, 0}, {most, "yl2p", most, 0, 1}, {most, "yl9P", most, 0, 1}, {most, "ylpp", full, 1, 1}, {full, "yyp", full, 0, 1}, {full, "5lyyP", full, 5, 1}, {full, "ddp", "", 0, 1}, {full, "ddP", "", 0, 1}, {full, "x2p", most, 0, 1}, {full, "xp", full, 1, 0},
+		{half, "yyp", half, 0, 1}, {half, "yyP", half, 0, 1}, {wide, "yyp", wide + "\n" + wide, 500, 0}, {wide, "yyP", wide + "\n" + wide, 0, 0}, {wide, "yy2p", wide, 0, 1}, {half, "y$P", full, 499, 0}, {half, "y$p", full, 500, 0}, {half, "y$2p", half, 0, 1}, {half + "\n", "ddp", "\n" + half, 1, 0}, {most, "\"ayy\"a99p", most, 0, 1},
+		{full, "99rx", full, 98, 0}, {full, "~", "X" + most, 1, 0}, {most[1:] + "\nx", "J", most[1:] + " x", 998, 0}, {strings.Repeat("\n", api.MaxText), "99J", strings.Repeat("\n", api.MaxText-98), 0, 0},
+		{full, "xu", full, 999, 0}, {full, "xxuu", full, 999, 0}, {full, "xu\x12", most, 998, 0}, {full, "ylpu", full, 0, 2},
+		{most, "ylp.", full, 1, 1}, {most, "ox\x1bk.", most + "\n", 0, 1}, {most[2:], "oxy\x1bk.", most[2:] + "\nxy", 1, 1}, {full, "xiyz\x1b.", "y" + most, 0, 0}, {most[1:], "ix\x1b...", full, 0, 0}, {deep, ">>.", "  " + deep, 4, 1}, {"", "i" + half + "x\x1b..", full, 997, 0},
+	})
 	for _, keys := range []string{"v>", "V>", "vl2>"} {
 		e := open(t, full)
 		if fails := e.Type(keys); fails != 1 || e.State().Text != full || e.State().Mode == api.Normal {

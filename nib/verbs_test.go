@@ -121,23 +121,25 @@ func TestNumbersOfVerbs(t *testing.T) {
 	}
 }
 
-// TestExamples: what the document's examples type, as far as no u and no . is in them.
+// TestExamples: what the document's examples type.
 func TestExamples(t *testing.T) {
 	e := open(t, "foo bar (baz)")
 	for _, c := range []struct {
-		keys string
-		want api.State
+		keys  string
+		want  api.State
+		taken string
 	}{
-		{"wdw", api.State{Text: "foo (baz)", At: 4}},
-		{"di(", api.State{Text: "foo ()", At: 5}},
-		{"ibaz\x1b", api.State{Text: "foo (baz)", At: 7}},
-		{"0cwno\x1b", api.State{Text: "no (baz)", At: 1}},
+		{"wdw", api.State{Text: "foo (baz)", At: 4}, "bar "},
+		{"di(", api.State{Text: "foo ()", At: 5}, "baz"},
+		{"u", api.State{Text: "foo (baz)", At: 5}, "baz"},
+		{"0cwno\x1b", api.State{Text: "no (baz)", At: 1}, "foo"},
+		{"w.", api.State{Text: "no nobaz)", At: 4}, "("},
 	} {
 		if fails := e.Type(c.keys); fails != 0 || e.State() != c.want {
 			t.Errorf("the examples: typed %q: %+v, %d failed, want %+v", c.keys, e.State(), fails, c.want)
 		}
-	}
-	if text, lines := e.Register('"'); text != "foo" || lines {
-		t.Errorf("the examples: the register has %q, %v", text, lines)
+		if text, lines := e.Register('"'); text != c.taken || lines {
+			t.Errorf("the examples: typed %q: the register has %q, %v, want %q", c.keys, text, lines, c.taken)
+		}
 	}
 }

@@ -21,3 +21,17 @@ func (t Text) Of(s Stretch) string { return string(t[s[0]:s[1]]) }
 func (t Text) With(s Stretch, bytes string) Text {
 	return t[:s[0]] + Text(bytes) + t[s[1]:]
 }
+
+// Apart is the least stretches of two texts in which they differ: with the bytes of the other's stretch in its own one each text is the other.
+func (t Text) Apart(other Text) (own, others Stretch) {
+	shorter := min(len(t), len(other))
+	ahead := 0
+	for ahead < shorter && t[ahead] == other[ahead] {
+		ahead++
+	}
+	behind := 0
+	for behind < shorter-ahead && t[len(t)-1-behind] == other[len(other)-1-behind] {
+		behind++
+	}
+	return Stretch{ahead, len(t) - behind}, Stretch{ahead, len(other) - behind}
+}

@@ -26,8 +26,10 @@ func Do(verb byte, t text.Text, piece text.Piece, at int) (text.Text, int) {
 		return t.With(piece.Stretch, ""), piece.Stretch[0]
 	case Right, Left:
 		return shifted(verb, t, piece)
-	case Small, Great:
-		return t.With(piece.Stretch, cased(verb, t.Of(piece.Stretch))), backTo(t, piece, at)
+	case Small:
+		return t.With(piece.Stretch, text.Each(t.Of(piece.Stretch), text.Small)), backTo(t, piece, at)
+	case Great:
+		return t.With(piece.Stretch, text.Each(t.Of(piece.Stretch), text.Great)), backTo(t, piece, at)
 	}
 	return t, backTo(t, piece, at)
 }
