@@ -45,9 +45,9 @@ func (b *begun) digit(key byte) bool {
 	return true
 }
 
-// lead begins the name of a register, which stands ahead of all but another name.
+// lead begins the name of a register, which stands ahead of all else; so there is only one.
 func (b *begun) lead() outcome {
-	if b.number != 0 {
+	if b.waiting() {
 		return failed
 	}
 	return b.await('"')

@@ -35,14 +35,10 @@ func TestRegisterIsNamed(t *testing.T) {
 }
 
 func TestRegisterIsForgotten(t *testing.T) {
-	for _, keys := range []string{"\"al", "\"ah", "\"aq", "\"a\x1b", "\"a2l", "\"av", "v\"al"} {
+	for _, keys := range []string{"\"al", "\"ah", "\"aq", "\"a\x1b", "\"a2l", "\"av", "v\"al", "\"a\"", "\"\"\"", "\"a2\"", "\"a\"b", "v\"a\"", "V\"a\"", "V\"a2\""} {
 		b := New("foo")
 		if b.Type(keys); b.register != 0 {
 			t.Errorf("typed %q: %q is still named", keys, b.register)
 		}
-	}
-	b := New("foo")
-	if b.Type("\"a\"b"); b.register != 'b' {
-		t.Errorf("of two names the later one holds, not %q", b.register)
 	}
 }

@@ -22,7 +22,7 @@ func TestDot(t *testing.T) {
 
 // TestDotKeepsDoing: what comes between a doing and its dot, and is none.
 func TestDotKeepsDoing(t *testing.T) {
-	for _, between := range []string{"", "l0", "yl", "Y", "\"ayl", "u\x12", "vd", "vcq\x1b", "Vy", "vlU", "V>", "dfq", "9rx", "q", "2q", "dq", "\"A", "v\x1b", "r\x1b", "d\x1b", "u", "cfq", "\"b9\x1b", "3\x1b", "fc", "r\n", "ci{"} {
+	for _, between := range []string{"", "l0", "yl", "Y", "\"ayl", "u\x12", "vd", "vcq\x1b", "Vy", "vlU", "V>", "dfq", "9rx", "q", "2q", "dq", "\"A", "\"b\"", "v\x1b", "r\x1b", "d\x1b", "u", "cfq", "\"b9\x1b", "3\x1b", "fc", "r\n", "ci{"} {
 		one, other := open(t, "abcdef ghi"), open(t, "abcdef ghi")
 		one.Type("2x" + between)
 		other.Type("2x" + between)

@@ -14,7 +14,7 @@ import (
 // drawn: parts of commands and whole ones, for keys drawn by lot.
 var drawn = strings.Split("h|j|k|w|0|$|G|gg|fa|;|x|2x|X|dw|d2b|dd|2dd|diw|D|J|3J|~|9~|rx|3ry|r\x1b|>>|<j|guiw|gUU|p|P|3p|\"ap|\"bP|yy|\"ayw|\"byj|Y|ix\x1b|aab\n c\x1b|I\x08\x1b|A.\x1b|oq\x1b|O\x1b|cwu\x1b|2sz\x1b|S\x1b|C-\x1b|cfa.\x1b|i|a|o|cc|c0|\x1b|\x1b|u|u|u|2u|99u|\x12|\x12|2\x12|99\x12|.|.|.|2.|\"a.|\"b9.|v|V|vd|vec|vU|V>|Vy|viwcn\x1b|vo|q|2|9|\"|\"a|d|g|r|c", "|")
 
-// commands of Normal, with names and a number ahead.
+// commands of Normal, with a name and a number ahead.
 var (
 	undo    = command(`u`)
 	redo    = command(`\x12`)
@@ -24,7 +24,7 @@ var (
 )
 
 func command(keys string) *regexp.Regexp {
-	return regexp.MustCompile(`(?s)^(?:"["a-z])*([1-9][0-9]*)?` + keys + `$`)
+	return regexp.MustCompile(`(?s)^(?:"["a-z])?([1-9][0-9]*)?` + keys + `$`)
 }
 
 // walker knows of an editor only what State tells after each key, and what the document says that follows.

@@ -26,7 +26,7 @@ func TestMarks(t *testing.T) {
 		{"vv", normal(0), 0}, {"VV", normal(0), 0}, {"wvwv", normal(10), 0}, {"wVwV", normal(10), 0},
 		{"wvwV", lines(4, 10), 0}, {"wVwv", visual(4, 10), 0}, {"wvVvw", visual(4, 10), 0}, {"wvV\x1b", normal(4), 0}, {"wv\x1bwv", visual(10, 10), 0},
 		{"wvo", visual(4, 4), 0}, {"wvwo", visual(10, 4), 0}, {"wvwoo", visual(4, 10), 0}, {"wvbo", visual(0, 4), 0}, {"wvwob", visual(10, 0), 0}, {"wVjo", lines(16, 4), 0}, {"wvw9o", visual(10, 4), 0},
-		{"vh", visual(0, 0), 1}, {"v9j", visual(0, 0), 1}, {"Vk", lines(0, 0), 1}, {"wvq", visual(4, 4), 1}, {"wVwp", lines(4, 10), 1}, {"vgu", visual(0, 0), 1}, {"vgU", visual(0, 0), 1}, {"v2\"", visual(0, 0), 1}, {"v\"A", visual(0, 0), 1}, {"viq", visual(0, 0), 1}, {"vgqw", visual(0, 4), 1}, {"v3ql", visual(0, 1), 1},
+		{"vh", visual(0, 0), 1}, {"v9j", visual(0, 0), 1}, {"Vk", lines(0, 0), 1}, {"wvq", visual(4, 4), 1}, {"wVwp", lines(4, 10), 1}, {"vgu", visual(0, 0), 1}, {"vgU", visual(0, 0), 1}, {"v2\"", visual(0, 0), 1}, {"wv\"a\"", visual(4, 4), 1}, {"wV\"a\"", lines(4, 4), 1}, {"v\"a2\"l", visual(0, 1), 1}, {"v\"\"\"l", visual(0, 1), 1}, {"v\"A", visual(0, 0), 1}, {"viq", visual(0, 0), 1}, {"vgqw", visual(0, 4), 1}, {"v3ql", visual(0, 1), 1},
 		{"v\"al", visual(0, 1), 0}, {"v\"a2l", visual(0, 2), 0}, {"V\"av", visual(0, 0), 0},
 	} {
 		e := open(t, sample)

@@ -62,6 +62,9 @@ func TestFails(t *testing.T) {
 		{"foo", "gUul", 1, 1},     // the last key of another verb
 		{"foo", "3\"l", 1, 1},     // a name behind a number
 		{"foo", "\"a3\"l", 1, 1},  // likewise
+		{"foo", "\"a\"l", 1, 1},   // a name behind a name
+		{"foo", "\"\"\"l", 1, 1},  // likewise
+		{"foo", "\"a\"bl", 1, 2},  // what would name it is a command
 		{"foo", "\"Al", 1, 1},     // no name
 		{"foo", "\"1l", 1, 1},     // no name
 		{"foo", "\"\nl", 1, 1},    // no name
@@ -97,28 +100,55 @@ func TestEscape(t *testing.T) {
 	})
 }
 
-// commandKeys: all keys that begin a command in Normal, and in Visual and Lines.
+// The keys that can come: of ways; behind a verb (and its own last key); behind a name or a number, and ahead of all, in Normal, and in Visual and Lines; behind the key of a name.
 const (
 	wayKeys    = "hl0^$jkGgwWbBeEftFT;,}{%"
-	normalKeys = wayKeys + "123456789\"dcy><xXDCsSYprP~JiaIAoOvVu\x12.\x1b"
-	markKeys   = wayKeys + "123456789\"iaovVdxcsy><uU\x1b"
+	verbKeys   = wayKeys + "123456789ia\x1b"
+	laterKeys  = wayKeys + "123456789dcy><xXDCsSYprP~JiaIAoOvVu\x12.\x1b"
+	normalKeys = laterKeys + "\""
+	laterMarks = wayKeys + "123456789iaovVdxcsy><uU\x1b"
+	markKeys   = laterMarks + "\""
+	nameKeys   = "\"abcdefghijklmnopqrstuvwxyz\x1b"
 )
 
-func TestNoCommand(t *testing.T) {
-	for c := range 256 {
-		key := string([]byte{byte(c)})
-		if strings.IndexByte(normalKeys, byte(c)) < 0 {
-			check(t, "P4, no command", []row{{"foo bar", "w" + key, 4, 1}, {"foo bar", "w2" + key, 4, 1}, {"", key, 0, 1}})
-		}
-		if strings.IndexByte(markKeys, byte(c)) >= 0 {
-			continue
-		}
-		for begin, mode := range map[string]int{"wv": api.Visual, "wV": api.Lines} {
-			e := open(t, "foo bar")
-			fails := e.Type(begin + "l2" + key)
-			if s := e.State(); fails != 1 || s != (api.State{Text: "foo bar", At: 5, Anchor: 4, Mode: mode}) {
-				t.Errorf("P4: typed %q: %+v, %d failed", begin+"l2"+key, s, fails)
+// checkOthersFail wants of all keys but those that go on there that they fail, and that the state is the one ahead of what was begun.
+func checkOthersFail(t *testing.T, ahead string, begun map[string]string) {
+	t.Helper()
+	for begin, goesOn := range begun {
+		for c := range 256 {
+			if strings.IndexByte(goesOn, byte(c)) >= 0 {
+				continue
 			}
+			e := open(t, "foo bar")
+			e.Type(ahead)
+			before := e.State()
+			keys := begin + string([]byte{byte(c)})
+			if fails := e.Type(keys); fails != 1 || e.State() != before {
+				t.Errorf("P4: typed %q behind %q: %+v, %d failed", keys, ahead, e.State(), fails)
+			}
+			if fails := e.Type("\"byl"); fails != 0 || len(registersOf(e)) != 2 {
+				t.Errorf("P4: typed %q behind %q: a register's name is kept: %+v, %d failed", keys, ahead, registersOf(e), fails)
+			}
+		}
+	}
+}
+
+func TestNoCommand(t *testing.T) {
+	for _, ahead := range []string{"", "w"} {
+		checkOthersFail(t, ahead, map[string]string{
+			"": normalKeys, "2": laterKeys, "\"a": laterKeys, "\"\"": laterKeys, "\"a2": laterKeys, "\"": nameKeys,
+			"d": verbKeys + "d", "\"ad": verbKeys + "d", "2c3": verbKeys + "c", "y": verbKeys + "y", ">": verbKeys + ">", "<": verbKeys + "<", "gu": verbKeys + "u", "\"a2gU": verbKeys + "U",
+			"g": "guU\x1b", "\"a2g": "guU\x1b", "dg": "g\x1b", "gug": "g\x1b",
+		})
+	}
+	for _, ahead := range []string{"v", "V", "wvl", "wVl"} {
+		checkOthersFail(t, ahead, map[string]string{
+			"": markKeys, "2": laterMarks, "\"a": laterMarks, "\"\"": laterMarks, "\"a2": laterMarks, "\"": nameKeys, "g": "g\x1b", "\"ag": "g\x1b",
+		})
+	}
+	for c := range 256 {
+		if strings.IndexByte(normalKeys, byte(c)) < 0 {
+			check(t, "P4, no command in an empty text", []row{{"", string([]byte{byte(c)}), 0, 1}})
 		}
 	}
 }
@@ -126,7 +156,7 @@ func TestNoCommand(t *testing.T) {
 func TestWaiting(t *testing.T) {
 	for _, keys := range []string{
 		"1", "9", "10", "\"", "\"\"", "\"a", "\"z", "\"a2", "d", "c", "y", ">", "<", "g", "gu", "gU", "d2", "dg", "gug", "guf", "df", "di", "da", "\"a3d2i",
-		"f", "t", "F", "T", "2f", "r", "3r", "v1", "vg", "vf", "v\"", "v\"a", "vi", "va", "V2", "Vt", "q3", "l\"a",
+		"f", "t", "F", "T", "2f", "r", "3r", "v1", "vg", "vf", "v\"", "v\"a", "vi", "va", "V2", "Vt", "q3", "l\"a", "\"a\"\"", "\"a\"\"b",
 	} {
 		e := open(t, "foo bar")
 		e.Type(keys)
@@ -137,7 +167,7 @@ func TestWaiting(t *testing.T) {
 			t.Errorf("P5: typed %q and Escape: %+v", keys, e.State())
 		}
 	}
-	for _, keys := range []string{"", "l", "2l", "0", "\"al", "gg", "fo", "f1", "v", "vl", "v2l", "vfo", "V", "vv", "q", "2q", "dq", "vq", "v2q", "dfq", "\"A", "dw", "\"a2dd", "diw", "guu", "i", "2i", "\"aA", "id2", "cw", "c2wd", "2s", "vd", "v\"ay", "viw", "v2c", "i\x1b"} {
+	for _, keys := range []string{"", "l", "2l", "0", "\"al", "gg", "fo", "f1", "v", "vl", "v2l", "vfo", "V", "vv", "q", "2q", "dq", "vq", "v2q", "dfq", "\"A", "\"a\"", "\"\"\"", "\"a2\"", "v\"a\"", "V\"a\"", "dw", "\"a2dd", "diw", "guu", "i", "2i", "\"aA", "id2", "cw", "c2wd", "2s", "vd", "v\"ay", "viw", "v2c", "i\x1b"} {
 		e := open(t, "foo bar")
 		if e.Type(keys); e.State().Waiting {
 			t.Errorf("P5: typed %q: waiting", keys)
